@@ -1,0 +1,1 @@
+"""Leasttolls: roads that take toll, and whether one purse is enough for all words."""
