@@ -42,7 +42,7 @@ def is_room(thing, rooms):
 
 def is_letter(thing, letters):
     # A tuple of letters is asked, since a text also holds its parts of no sign or of two.
-    return isinstance(thing, str) and thing in LETTERS[:letters]
+    return thing in LETTERS[:letters]
 
 
 def are_rising_rooms(thing, rooms):

@@ -79,3 +79,21 @@ def least_fee(machine, word, begins, ends):
         fees(machine, places) for start, goal, places in all_walks(machine, word)
         if start in begins and goal in ends
     ), default=None)
+
+
+def made_table(chance, size, prices):
+    return tuple(tuple(chance.choice(prices) for j in range(size)) for i in range(size))
+
+
+def letter_after_letter(machine, word, first, fold):
+    """Each room's least number behind the word, from that of each room ahead of it, by doors alone."""
+    numbers = list(first)
+    for letter in word:
+        behind = [None] * machine[1]
+        for start, sign, goal, fee in machine[4]:
+            if sign == letter and numbers[start] is not None:
+                number = numbers[start] + fee
+                if behind[goal] is None or number < behind[goal]:
+                    behind[goal] = number
+        numbers = [fold(number) for number in behind]
+    return numbers

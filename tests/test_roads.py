@@ -51,6 +51,10 @@ class Walks(unittest.TestCase):
                 self.assertIs(is_walk(machine, "", start, goal, []), start == goal)
                 self.assertIs(is_walk(machine, "", start, goal, [0]), False)
 
+    def test_no_walk_from_what_is_no_room(self):
+        self.assertIs(is_walk(PLAIN, "", 3, 3, []), False)
+        self.assertIs(is_walk(PLAIN, "", -1, -1, []), False)
+
     def test_roads_of_the_empty_word(self):
         self.assertIs(is_road(PLAIN, "", []), False)
         self.assertIs(is_road(ONE_ROOM, "", []), True)
