@@ -3,9 +3,10 @@
 from leasttolls.grids import at_begins_and_ends, grid, raised
 from leasttolls.tables import word_table
 
-# 2, without bound, has no name here, since no single price has that sign.
+# No single price is without bound: that sign tells of words that grow.
 FREE = 0
 SOME = 1
+UNBOUND = 2
 NONE = 3
 
 

@@ -24,6 +24,27 @@ NO_END = (1, 2, (0, 1), (), ((0, "a", 1, 1), (1, "a", 0, 1)))
 NO_DOOR = (2, 3, (0, 1), (1, 2), ())
 ONE_ROOM = (1, 1, (0,), (0,), ((0, "a", 0, 1),))
 
+# Closed sets of just eighty sign tables, and of just one more.
+EIGHTY = [
+    (3, 4, (3,), (0, 1, 3), ((1, "c", 0, 3), (0, "a", 1, 3), (0, "c", 3, 3), (1, "c", 3, 0), (0, "c", 1, 2),
+                             (2, "b", 3, 1), (2, "b", 0, 1), (3, "c", 1, 0), (3, "b", 3, 1))),
+    (3, 4, (2,), (1, 2, 3), ((0, "a", 2, 0), (1, "c", 0, 1), (2, "a", 1, 0), (2, "b", 2, 0), (2, "a", 1, 1),
+                             (0, "a", 2, 2), (1, "a", 0, 2), (1, "c", 3, 0), (1, "a", 1, 0), (2, "c", 3, 0))),
+]
+EIGHTY_ONE = [
+    (2, 4, (2,), (1, 2, 3), ((2, "b", 3, 2), (0, "a", 1, 3), (2, "a", 3, 0), (3, "a", 0, 1), (2, "b", 0, 2),
+                             (0, "b", 0, 1), (0, "a", 3, 0), (1, "b", 0, 3), (0, "a", 3, 0), (0, "b", 0, 0),
+                             (0, "b", 2, 3))),
+    (3, 4, (0, 3), (3,), ((0, "b", 2, 2), (2, "b", 1, 2), (2, "a", 0, 0), (2, "b", 1, 0), (1, "b", 1, 0),
+                          (1, "c", 2, 2), (3, "c", 0, 3), (1, "a", 0, 2), (2, "a", 2, 3))),
+]
+
+# Things of every kind that may be asked about, none of them a machine, a word, a step or a paper.
+ODD_THINGS = [
+    None, True, False, -1, 0, 1, 10 ** 59, -10 ** 59, "z", "ab z", "letter", [], [[]], (), ((),), ("a",), [0],
+    (None,), ((True,), [False]), [(0, "a", 0, 1)], ((((((((((((((1,),),),),),),),),),),),),),),
+]
+
 NAMED = [PLAIN, CROWDED, NO_BEGIN, NO_END, NO_DOOR, ONE_ROOM]
 
 
@@ -97,3 +118,88 @@ def letter_after_letter(machine, word, first, fold):
                     behind[goal] = number
         numbers = [fold(number) for number in behind]
     return numbers
+
+
+def least_numbers(machine, word):
+    """The table of a word of any length, by doors alone."""
+    rooms = range(machine[1])
+    return tuple(
+        tuple(letter_after_letter(machine, word, [0 if i == j else None for j in rooms], lambda number: number))
+        for i in rooms
+    )
+
+
+def letter_signs(machine, letter):
+    return tuple(
+        tuple(3 if number is None else min(number, 1) for number in row) for row in least_numbers(machine, letter)
+    )
+
+
+def signs_multiplied(one, other):
+    size = range(len(one))
+    return tuple(tuple(min(max(one[i][k], other[k][j]) for k in size) for j in size) for i in size)
+
+
+def signs_sharpened(signs):
+    """What the document tells, or None where the sign table is not steady."""
+    if signs_multiplied(signs, signs) != signs:
+        return None
+    size = range(len(signs))
+    rounds = {0: 0, 1: 2, 2: 2, 3: 3}
+    return tuple(
+        tuple(min(max(signs[i][k], rounds[signs[k][k]], signs[k][j]) for k in size) for j in size) for i in size
+    )
+
+
+def made_sign_tables(seed, many):
+    chance = random.Random(seed)
+    return [made_table(chance, size, (0, 1, 2, 3, 3)) for size in range(1, 6) for at in range(many)]
+
+
+def steady_sign_tables(seed, many):
+    """Powers of other ones, as few take a steady one by chance."""
+    found = []
+    for signs in made_sign_tables(seed, many):
+        power = signs
+        while signs_multiplied(power, power) != power:
+            power = signs_multiplied(power, signs)
+        found.append(power)
+    return found
+
+
+def made_makings(chance, machine, many):
+    """Makings that are as told, with the sign table of each step."""
+    steps = []
+    tables = []
+    while len(steps) < many:
+        kind = chance.choice(("letter", "pair", "pair", "sharp", "sharp")) if steps else "letter"
+        one = chance.randrange(len(steps)) if steps else 0
+        other = chance.randrange(len(steps)) if steps else 0
+        if kind == "letter":
+            step = (kind, chance.choice("abc"[:machine[0]]))
+            signs = letter_signs(machine, step[1])
+        elif kind == "pair":
+            step = (kind, one, other)
+            signs = signs_multiplied(tables[one], tables[other])
+        else:
+            step = (kind, one)
+            signs = signs_sharpened(tables[one])
+        if signs is not None:
+            steps.append(step)
+            tables.append(signs)
+    return tuple(steps), tables
+
+
+def go_together(signs, table, n, weight):
+    """Whether signs and prices go together as the document tells of a step: all places at once."""
+    for row, prices in zip(signs, table):
+        for sign, price in zip(row, prices):
+            fits = (
+                (sign == 0) == (price == 0)
+                and (sign == 3) == (price is None)
+                and (sign != 2 or price > n)
+                and (sign != 1 or 1 <= price <= weight)
+            )
+            if not fits:
+                return False
+    return True

@@ -1,16 +1,10 @@
 import unittest
 
 from leasttolls.machines import is_machine, is_word
-from samples import NAMED, PLAIN, made_machines
+from samples import NAMED, ODD_THINGS, PLAIN, made_machines
 
 DOOR = (0, "a", 0, 1)
 BIG = 10 ** 59
-
-# Things of every kind that may be asked about, none of them a machine, a word, a room or a door.
-ODD_THINGS = [
-    None, True, False, -1, BIG, -BIG, "z", "ab z", [], [[]], ((),), ("a",), [0], (None,), ((True,), [False]),
-    [DOOR], ((((((((((((((1,),),),),),),),),),),),),),),
-]
 
 
 def with_part(at, part):

@@ -3,19 +3,12 @@ import unittest
 
 from leasttolls.signs import end_sign, plain_signs, reading, sign_of, sign_power, sign_product, word_signs
 from leasttolls.tables import letter_table, power, product, word_table
-from samples import CROWDED, NAMED, NO_BEGIN, NO_DOOR, NO_END, ONE_ROOM, PLAIN, made_machines, made_table, words_up_to
+from samples import (
+    CROWDED, NAMED, NO_BEGIN, NO_DOOR, NO_END, ONE_ROOM, PLAIN, made_machines, made_sign_tables, made_table,
+    signs_multiplied, words_up_to,
+)
 
 BIG = 10 ** 59
-
-
-def product_by_the_document(one, other):
-    size = range(len(one))
-    return tuple(tuple(min(max(one[i][k], other[k][j]) for k in size) for j in size) for i in size)
-
-
-def sign_tables(seed, many):
-    chance = random.Random(seed)
-    return [made_table(chance, size, (0, 1, 2, 3, 3)) for size in range(1, 6) for at in range(many)]
 
 
 class Signs(unittest.TestCase):
@@ -51,14 +44,14 @@ class Signs(unittest.TestCase):
                 self.assertEqual(told, ((min(one, other), 3), (3, 3)))
 
     def test_product_against_the_document(self):
-        for one, other in zip(sign_tables(52, 30), sign_tables(53, 30)):
+        for one, other in zip(made_sign_tables(52, 30), made_sign_tables(53, 30)):
             told = sign_product(one, other)
             self.is_table(told, len(one))
-            self.assertEqual(told, product_by_the_document(one, other))
-            self.assertEqual(sign_product(one, one), product_by_the_document(one, one))
+            self.assertEqual(told, signs_multiplied(one, other))
+            self.assertEqual(sign_product(one, one), signs_multiplied(one, one))
 
     def test_product_with_the_plain_one(self):
-        for table in sign_tables(54, 20):
+        for table in made_sign_tables(54, 20):
             self.assertEqual(sign_product(plain_signs(len(table)), table), table)
             self.assertEqual(sign_product(table, plain_signs(len(table))), table)
 
@@ -72,11 +65,11 @@ class Signs(unittest.TestCase):
             self.assertEqual(reading(power(one, BIG + at)), sign_power(reading(one), BIG + at))
 
     def test_small_powers(self):
-        for table in sign_tables(56, 8):
+        for table in made_sign_tables(56, 8):
             expected = plain_signs(len(table))
             for many in range(0, 18):
                 self.assertEqual(sign_power(table, many), expected)
-                expected = product_by_the_document(expected, table)
+                expected = signs_multiplied(expected, table)
 
     def test_great_powers(self):
         swap = ((3, 1), (0, 3))
@@ -86,7 +79,7 @@ class Signs(unittest.TestCase):
         ring = tuple(tuple(2 if j == (i + 1) % 5 else 3 for j in range(5)) for i in range(5))
         for many in (BIG, BIG + 1, BIG + 2, 10 ** 60 - 1):
             self.assertEqual(sign_power(ring, many), sign_power(ring, many % 5 + 5))
-        for table in sign_tables(57, 4):
+        for table in made_sign_tables(57, 4):
             told = sign_power(table, 10 ** 60 - 1)
             self.assertEqual(sign_product(told, table), sign_power(table, 10 ** 60))
 
@@ -108,7 +101,7 @@ class SignsOfWords(unittest.TestCase):
                 self.assertEqual(told, reading(word_table(machine, word)))
                 expected = plain_signs(machine[1])
                 for letter in word:
-                    expected = product_by_the_document(expected, reading(letter_table(machine, letter)))
+                    expected = signs_multiplied(expected, reading(letter_table(machine, letter)))
                 self.assertEqual(told, expected)
 
     def test_end_sign(self):
