@@ -78,7 +78,11 @@ def is_machine(thing):
     )
 
 
-def is_word(machine, thing):
-    if not isinstance(thing, str) or len(thing) > MOST_LETTERS:
+def is_word_up_to(machine, thing, most):
+    if not isinstance(thing, str) or len(thing) > most:
         return False
     return all([letter in letters_of(machine) for letter in thing])
+
+
+def is_word(machine, thing):
+    return is_word_up_to(machine, thing, MOST_LETTERS)

@@ -203,3 +203,39 @@ def go_together(signs, table, n, weight):
             if not fits:
                 return False
     return True
+
+
+def made_recipe(chance, letters, many, times):
+    """A recipe of so many steps over the first letters, with numbers of times out of those handed in."""
+    steps = []
+    for at in range(many):
+        kind = chance.choice(("letter", "pair", "times", "times")) if steps else "letter"
+        if kind == "letter":
+            steps.append((kind, chance.choice("abc"[:letters])))
+        elif kind == "pair":
+            steps.append((kind, chance.randrange(at), chance.randrange(at)))
+        else:
+            steps.append((kind, chance.randrange(at), chance.choice(times)))
+    return tuple(steps)
+
+
+def step_values(steps, of_letter, of_pair, of_again):
+    """What each step of makings or of a recipe comes to; a sharp or times step is handed to of_again as it stands."""
+    values = []
+    for step in steps:
+        if step[0] == "letter":
+            values.append(of_letter(step[1]))
+        elif step[0] == "pair":
+            values.append(of_pair(values[step[1]], values[step[2]]))
+        else:
+            values.append(of_again(values[step[1]], step))
+    return values
+
+
+def recipe_lengths(recipe):
+    return step_values(recipe, lambda letter: 1, lambda one, other: one + other, lambda one, step: one * step[2])
+
+
+def recipe_words(recipe):
+    """The word of each step, written out."""
+    return step_values(recipe, lambda letter: letter, lambda one, other: one + other, lambda one, step: one * step[2])

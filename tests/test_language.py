@@ -57,6 +57,8 @@ def bound_names(tree):
             yield node.arg
         elif isinstance(node, ast.Name) and isinstance(node.ctx, ast.Store):
             yield node.id
+        elif isinstance(node, ast.ExceptHandler) and node.name is not None:
+            yield node.name
 
 
 class Files(unittest.TestCase):
@@ -141,6 +143,10 @@ class Forms(unittest.TestCase):
             tops = [row.name if hasattr(row, "name") else row.targets[0].id
                     for row in tree.body[1:] if not isinstance(row, ast.ImportFrom)]
             self.assertEqual(len(tops), len(set(tops)), path)
+            for row in tree.body[1:]:
+                if isinstance(row, ast.Assign):
+                    for node in ast.walk(row.value):
+                        self.assertIsInstance(node, (ast.Constant, ast.Tuple, ast.Load), (path, row.lineno))
 
     def test_l4_l5_l21_functions_and_classes(self):
         for path, node in nodes((ast.FunctionDef, ast.Lambda)):
@@ -208,6 +214,17 @@ class Names(unittest.TestCase):
             if isinstance(node.op, ast.Pow):
                 self.assertIsInstance(node.right, ast.Constant, (path, node.lineno))
                 self.assertLessEqual(node.right.value, 64, (path, node.lineno))
+
+
+class Errors(unittest.TestCase):
+    def test_l19_errors_are_the_programs_own_and_made_on_the_spot(self):
+        own = {node.name for path, node in nodes(ast.ClassDef) if path.stem == "errors"}
+        for path, node in nodes(ast.ExceptHandler):
+            self.assertIsInstance(node.type, ast.Name, (path, node.lineno))
+            self.assertIn(node.type.id, own, (path, node.lineno))
+        for path, node in nodes(ast.Raise):
+            self.assertIsInstance(node.exc, ast.Call, (path, node.lineno))
+            self.assertIn(node.exc.func.id, own, (path, node.lineno))
 
 
 class Calls(unittest.TestCase):

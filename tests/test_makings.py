@@ -5,7 +5,7 @@ from leasttolls.errors import NoMaking
 from leasttolls.makings import signs_made, weights
 from leasttolls.signs import sign_product, word_signs
 from leasttolls.steady import sharpened
-from samples import NAMED, ODD_THINGS, ONE_ROOM, PLAIN, made_machines, made_makings
+from samples import NAMED, ODD_THINGS, ONE_ROOM, PLAIN, made_machines, made_makings, step_values
 
 A = ("letter", "a")
 B = ("letter", "b")
@@ -131,14 +131,9 @@ class Weights(unittest.TestCase):
         chance = random.Random(76)
         for machine in made_machines(77, 60):
             steps = made_makings(chance, machine, 15)[0]
-            expected = []
-            for step in steps:
-                if step[0] == "letter":
-                    expected.append(3)
-                elif step[0] == "pair":
-                    expected.append(expected[step[1]] + expected[step[2]])
-                else:
-                    expected.append(expected[step[1]] * 2)
+            expected = step_values(
+                steps, lambda letter: 3, lambda one, other: one + other, lambda one, step: 2 * one,
+            )
             told = weights(machine, steps)
             self.assertEqual(told, expected)
             self.assertIs(type(told), list)

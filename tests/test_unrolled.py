@@ -5,7 +5,9 @@ from leasttolls.errors import TooLong
 from leasttolls.makings import signs_made, weights
 from leasttolls.tables import letter_table, power, price, product, word_table
 from leasttolls.unrolled import lengths, table_unrolled, word_unrolled
-from samples import CROWDED, NO_DOOR, ONE_ROOM, PLAIN, go_together, least_numbers, made_machines, made_makings
+from samples import (
+    CROWDED, NO_DOOR, ONE_ROOM, PLAIN, go_together, least_numbers, made_machines, made_makings, step_values,
+)
 
 A = ("letter", "a")
 B = ("letter", "b")
@@ -17,27 +19,13 @@ STAYS = [(2, rooms, (0,), (0,), tuple((room, "a", room, room % 2) for room in ra
 
 def words_of(machine, makings, n):
     """The word of each step, written out."""
-    words = []
-    for step in makings:
-        if step[0] == "letter":
-            words.append(step[1])
-        elif step[0] == "pair":
-            words.append(words[step[1]] + words[step[2]])
-        else:
-            words.append(words[step[1]] * ((n + 1) * machine[1]))
-    return words
+    many = (n + 1) * machine[1]
+    return step_values(makings, lambda letter: letter, lambda one, other: one + other, lambda one, step: one * many)
 
 
 def lengths_of(machine, makings, n):
-    longs = []
-    for step in makings:
-        if step[0] == "letter":
-            longs.append(1)
-        elif step[0] == "pair":
-            longs.append(longs[step[1]] + longs[step[2]])
-        else:
-            longs.append(longs[step[1]] * (n + 1) * machine[1])
-    return longs
+    many = (n + 1) * machine[1]
+    return step_values(makings, lambda letter: 1, lambda one, other: one + other, lambda one, step: one * many)
 
 
 class Lengths(unittest.TestCase):
@@ -160,14 +148,10 @@ class TableUnrolled(unittest.TestCase):
     def test_very_great_numbers(self):
         for machine in STAYS + [PLAIN, CROWDED, ONE_ROOM, NO_DOOR]:
             makings = made_makings(random.Random(87), machine, 30)[0]
-            made = []
-            for step in makings:
-                if step[0] == "letter":
-                    made.append(letter_table(machine, step[1]))
-                elif step[0] == "pair":
-                    made.append(product(made[step[1]], made[step[2]]))
-                else:
-                    made.append(power(made[step[1]], (BIG + 1) * machine[1]))
+            many = (BIG + 1) * machine[1]
+            made = step_values(
+                makings, lambda letter: letter_table(machine, letter), product, lambda one, step: power(one, many),
+            )
             for at in range(30):
                 self.assertEqual(table_unrolled(machine, makings[:at + 1], BIG) == made[at], True)
 
