@@ -65,6 +65,25 @@ def made_machines(seed, many):
     return [made_machine(chance) for at in range(many)]
 
 
+def machine_with(chance, letters, rooms, most_toll, most_doors=12):
+    """A machine of so many letters and rooms, with no toll above the one told; most let many words by."""
+    return (
+        letters,
+        rooms,
+        tuple(room for room in range(rooms) if chance.random() < 0.7),
+        tuple(room for room in range(rooms) if chance.random() < 0.7),
+        tuple(
+            (chance.randrange(rooms), chance.choice("abc"[:letters]), chance.randrange(rooms),
+             chance.randint(0, most_toll))
+            for at in range(chance.choice((0, most_doors // 2, most_doors - 1, most_doors)))
+        ),
+    )
+
+
+def made_word(chance, letters, long):
+    return "".join(chance.choice("abc"[:letters]) for at in range(long))
+
+
 def words_up_to(machine, long):
     for length in range(long + 1):
         for letters in itertools.product("abc"[:machine[0]], repeat=length):
@@ -127,6 +146,13 @@ def least_numbers(machine, word):
         tuple(letter_after_letter(machine, word, [0 if i == j else None for j in rooms], lambda number: number))
         for i in rooms
     )
+
+
+def least_number(machine, word):
+    """The price of a word of any length, by doors alone."""
+    first = [0 if room in machine[2] else None for room in range(machine[1])]
+    told = letter_after_letter(machine, word, first, lambda number: number)
+    return min((told[room] for room in machine[3] if told[room] is not None), default=None)
 
 
 def letter_signs(machine, letter):
@@ -239,3 +265,87 @@ def recipe_lengths(recipe):
 def recipe_words(recipe):
     """The word of each step, written out."""
     return step_values(recipe, lambda letter: letter, lambda one, other: one + other, lambda one, step: one * step[2])
+
+
+def made_set(chance, pieces, deep):
+    """A set of so many pieces, or of fewer where it would be nested too deep."""
+    if pieces == 1 or deep == 1:
+        return chance.choice((("letter", "a"), ("letter", "b"), ("letter", "c"), ("letter", "a"), ("nothing",)))
+    if pieces == 2 or chance.random() < 0.3:
+        return ("repeat", made_set(chance, pieces - 1, deep - 1))
+    left = chance.randint(1, pieces - 2)
+    kind = chance.choice(("either", "behind"))
+    return (kind, made_set(chance, left, deep - 1), made_set(chance, pieces - 1 - left, deep - 1))
+
+
+def pieces_of(words):
+    """The set itself and all that it is built of, each as often as it stands."""
+    found = [words]
+    if words[0] in ("either", "behind", "repeat"):
+        for part in words[1:]:
+            found.extend(pieces_of(part))
+    return found
+
+
+def letters_in(words):
+    return len([piece for piece in pieces_of(words) if piece[0] == "letter"])
+
+
+def nested(words):
+    return 1 + max((nested(part) for part in words[1:] if isinstance(part, tuple)), default=0)
+
+
+def joined(kind, many, leaf):
+    """So many leaves joined by one kind, nested no deeper than needed."""
+    if many == 1:
+        return leaf
+    return (kind, joined(kind, many // 2, leaf), joined(kind, many - many // 2, leaf))
+
+
+def words_within(words, long):
+    """All words of a set of at most so many letters, one by one."""
+    if words[0] == "letter":
+        return {words[1]} if long > 0 else set()
+    if words[0] == "nothing":
+        return {""}
+    one = words_within(words[1], long)
+    if words[0] == "either":
+        return one | words_within(words[2], long)
+    if words[0] == "behind":
+        return {u + v for u in one for v in words_within(words[2], long) if len(u + v) <= long}
+    found = {""}
+    fresh = {""}
+    while fresh:
+        fresh = {u + v for u in fresh for v in one if len(u + v) <= long} - found
+        found |= fresh
+    return found
+
+
+def spans(words, word):
+    """For each place of a word the places up to which it is a word of the set from there, part by part."""
+    places = range(len(word) + 1)
+    if words[0] == "letter":
+        return [{at + 1} if word[at:at + 1] == words[1] else set() for at in places]
+    if words[0] == "nothing":
+        return [{at} for at in places]
+    one = spans(words[1], word)
+    if words[0] == "either":
+        return [here | there for here, there in zip(one, spans(words[2], word))]
+    if words[0] == "behind":
+        other = spans(words[2], word)
+        return [set().union(*(other[at] for at in here)) for here in one]
+    found = [set() for at in places]
+    for at in reversed(places):
+        found[at] = {at}.union(*(found[end] for end in one[at] if end > at))
+    return found
+
+
+def fewest_pieces(words, word):
+    """How many pieces of the set a word needs, none of them empty; None where it can't be pieced together."""
+    ahead = spans(words, word)
+    fewest = {len(word): 0}
+    for at in reversed(range(len(word))):
+        counts = [fewest[end] + 1 for end in ahead[at] if end > at and end in fewest]
+        if counts:
+            fewest[at] = min(counts)
+    return fewest.get(0)

@@ -10,8 +10,8 @@ from leasttolls.signs import end_sign
 from leasttolls.tables import price
 from leasttolls.unrolled import table_unrolled, word_unrolled
 from samples import (
-    CROWDED, EIGHTY, EIGHTY_ONE, NAMED, NO_BEGIN, NO_DOOR, NO_END, ONE_ROOM, PLAIN, letter_after_letter, made_machines,
-    words_up_to,
+    CROWDED, EIGHTY, EIGHTY_ONE, NAMED, NO_BEGIN, NO_DOOR, NO_END, ONE_ROOM, PLAIN, least_number, letter_after_letter,
+    made_machines, words_up_to,
 )
 
 BIG = 10 ** 30
@@ -26,12 +26,6 @@ COUNTED = (3, 5, (0, 1, 2, 3), (4,), tuple(
 
 # The same with two counting rooms, where there are few enough.
 COUNTED_LESS = (3, 5, (0, 1, 3), (4,), COUNTED[4])
-
-
-def least_number(machine, word):
-    first = [0 if room in machine[2] else None for room in range(machine[1])]
-    told = letter_after_letter(machine, word, first, lambda number: number)
-    return min((told[room] for room in machine[3] if told[room] is not None), default=None)
 
 
 def all_rows(machine, k):

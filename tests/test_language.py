@@ -37,6 +37,8 @@ NODES = (
     ast.ListComp, ast.comprehension, ast.JoinedStr, ast.FormattedValue, ast.expr_context, ast.operator, ast.boolop,
     ast.unaryop, ast.cmpop,
 )
+PLAIN_VALUES = (ast.Constant, ast.Tuple, ast.Load)
+CHANGES = {"append", "clear", "extend", "insert", "pop", "remove", "reverse", "setdefault", "update"}
 KEYWORDS = {"sorted": {"key", "reverse"}, "min": {"key", "default"}, "max": {"key", "default"}, "sum": {"start"},
             "enumerate": {"start"}, "zip": {"strict"}}
 
@@ -146,7 +148,22 @@ class Forms(unittest.TestCase):
             for row in tree.body[1:]:
                 if isinstance(row, ast.Assign):
                     for node in ast.walk(row.value):
-                        self.assertIsInstance(node, (ast.Constant, ast.Tuple, ast.Load), (path, row.lineno))
+                        kinds = (*PLAIN_VALUES, ast.Dict) if node is row.value else PLAIN_VALUES
+                        self.assertIsInstance(node, kinds, (path, row.lineno))
+
+    def test_l15_a_dict_of_the_top_is_only_read(self):
+        for path, tree in trees():
+            kept = {row.targets[0].id for row in tree.body
+                    if isinstance(row, ast.Assign) and isinstance(row.value, ast.Dict)}
+            read = set()
+            for node in ast.walk(tree):
+                if isinstance(node, ast.Subscript) and isinstance(node.ctx, ast.Load):
+                    read.add(id(node.value))
+                if isinstance(node, ast.Compare):
+                    read.update(id(side) for side in node.comparators)
+            for node in ast.walk(tree):
+                if isinstance(node, ast.Name) and node.id in kept and isinstance(node.ctx, ast.Load):
+                    self.assertIn(id(node), read, (path, node.lineno))
 
     def test_l4_l5_l21_functions_and_classes(self):
         for path, node in nodes((ast.FunctionDef, ast.Lambda)):
@@ -241,6 +258,38 @@ class Calls(unittest.TestCase):
             for node in ast.walk(tree):
                 if isinstance(node, ast.Call) and isinstance(node.func, ast.Name) and node.func.id in walkers:
                     self.assertIn(id(node), walked, (path, node.lineno))
+
+    def test_l23_what_a_loop_walks_is_not_changed_in_it(self):
+        for path, loop in nodes(ast.For):
+            walked = {ast.unparse(node) for node in ast.walk(loop.iter) if isinstance(node, (ast.Name, ast.Attribute))}
+            for node in [inner for row in loop.body for inner in ast.walk(row)]:
+                if isinstance(node, ast.Call) and isinstance(node.func, ast.Attribute) and node.func.attr in CHANGES:
+                    self.assertNotIn(ast.unparse(node.func.value), walked, (path, node.lineno))
+                if isinstance(node, ast.Subscript) and isinstance(node.ctx, ast.Store):
+                    self.assertNotIn(ast.unparse(node.value), walked, (path, node.lineno))
+
+    def test_l24_sets_are_neither_kept_nor_walked(self):
+        for path, tree in trees():
+            beside = set()
+            for node in ast.walk(tree):
+                if isinstance(node, ast.Call) and isinstance(node.func, ast.Name) and node.func.id in ("sorted", "len"):
+                    if not node.keywords:
+                        beside.update(id(arg) for arg in node.args)
+                if isinstance(node, ast.Compare):
+                    beside.update(id(side) for side in [node.left, *node.comparators])
+            for node in ast.walk(tree):
+                if isinstance(node, ast.Call) and isinstance(node.func, ast.Name) and node.func.id in ("set", "frozenset"):
+                    self.assertIn(id(node), beside, (path, node.lineno))
+        self.assertEqual(nodes(ast.Set), [])
+
+    def test_l18_no_name_is_a_method_and_a_value(self):
+        methods = [row.name for path, node in nodes(ast.ClassDef) for row in node.body
+                   if isinstance(row, ast.FunctionDef)]
+        own_values = {node.attr for path, node in nodes(ast.Attribute) if isinstance(node.ctx, ast.Store)}
+        self.assertEqual(set(methods) & own_values, set())
+        for path, node in nodes(ast.ClassDef):
+            named = [row.name for row in node.body if isinstance(row, ast.FunctionDef)]
+            self.assertEqual(len(named), len(set(named)), (path, node.name))
 
 
 if __name__ == "__main__":
